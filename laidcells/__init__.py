@@ -1,0 +1,1 @@
+"""Laidcells: gates laid in rows and fields, right at every width."""

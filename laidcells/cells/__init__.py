@@ -1,0 +1,1 @@
+"""Cells: some gates, read from texts, and what they tell by bits."""
