@@ -20,7 +20,6 @@ EVERY_WORD = "\n".join([
 ADDER = "in x y c\ns odd x y c\nm most x y c\nout s m"
 
 
-
 def greatest():
     """A cell as great as cells may be: 6 inputs, 24 gates, 6 outputs, all names of eight letters."""
     names = ["abcdefg" + sign for sign in "abcdefghijklmnopqrstuvwxyz"]
@@ -73,3 +72,75 @@ CELLS = (
        ("m", "most", ("a", "b", "c")), ("n", "not", ("a",)), ("high", "one", ()), ("low", "nil", ())),
       ("atwo", "athree", "otwo", "othree", "xtwo", "xthree"))),
 )
+
+
+def cell_of(text):
+    """A cell from its rows, parted by `;`, without the program's reading."""
+    rows = [row.strip().split(" ") for row in text.split(";")]
+    gates = tuple((words[0], words[1], tuple(words[2:])) for words in rows[1:-1])
+    return (tuple(rows[0][1:]), gates, tuple(rows[-1][1:]))
+
+
+def row_of(text, along):
+    return (cell_of(text), tuple(tuple(pair.split(">")) for pair in along.split()))
+
+
+# Rows by what they do. In along, `m>c`: the bit of m is carried to c.
+ROWS = {
+    "adder": row_of("in x y c; s odd x y c; m most x y c; out s m", "m>c"),
+    "less": row_of("in x y c; s odd x y c; n not x; m most n y c; out s m", "m>c"),
+    "count": row_of("in c x; s odd x c; m and x c; out m s", "m>c"),
+    # Three words go in, two bits are carried: x + y + z and what comes from below.
+    "three": row_of("in x y z a b; t odd x y z; h most x y z; s odd t a b; k most t a b; m or h h; out k s m",
+                    "k>b m>a"),
+    "double": row_of("in x c; s or c c; m and x x; out s m", "m>c"),
+    "triple": row_of("in x c d; s odd x c; h and x c; m odd x d h; j most x d h; out s m j", "m>c j>d"),
+    # Right as long as c and d are not both 1, which never comes from edges 0.
+    "triple from nought": row_of("in x c d; q and c d; s odd x c q; h and x c; m odd x d h; j most x d h; out s m j",
+                                 "j>d m>c"),
+    "nothing": row_of("in x y; p and x y; q odd x y; n not y; h one; l nil; out q n p h l", ""),
+    "everything": row_of("in a b; u not a; v odd a b; out u v", "u>a v>b"),
+    "crossed": row_of("in a b; u not a; v odd a b; out u v", "u>b v>a"),
+    "no words in": row_of("in c; s or c c; m not c; out m s", "m>c"),
+    "no words out": row_of("in x c; m odd x c; out m", "m>c"),
+    "no outputs": row_of("in x y; out", ""),
+    "no inputs": row_of("in; h one; l nil; out h l", ""),
+    "empty": row_of("in; out", ""),
+    "shift": row_of("in x d c b a; s or d d; u or c c; v or b b; w or a a; z or x x; out z w s v u",
+                    "z>a w>b v>c u>d"),
+    "parity": row_of("in x y z c; s odd x y z; m odd s c; out m s", "m>c"),
+}
+
+# (row, weights): claims that hold at every width, whatever the edges.
+HOLDING = (
+    ("adder", {"x": 1, "y": 1, "c": 1, "s": -1}),
+    ("adder", {"x": 999999999, "y": 999999999, "c": 999999999, "s": -999999999}),
+    ("less", {"x": 1, "y": -1, "c": -1, "s": -1}),
+    ("count", {"x": -3, "c": -3, "s": 3}),
+    ("three", {"x": 1, "y": 1, "z": 1, "a": 1, "b": 1, "s": -1}),
+    ("double", {"x": 2, "c": 1, "s": -1}),
+    ("triple", {"x": 3, "c": 1, "d": 2, "s": -1}),
+    ("nothing", {"x": 1, "y": 1, "q": -1, "p": -2}),
+    ("nothing", {"": 1, "y": -1, "n": -1}),
+    ("nothing", {"": -5, "h": 5, "l": 17}),
+    ("no words in", {"": 2, "s": -3, "c": 1}),
+    ("no inputs", {"": 1, "h": -1, "l": 4}),
+    ("shift", {"x": 16, "a": 8, "b": 4, "c": 2, "d": 1, "s": -1}),
+)
+
+
+def counter(bits, words, tell="full"):
+    """A row that counts its places in so many carried bits, where all its words have 1; s tells that all are 1."""
+    states, ins = list("abcd")[:bits], list("xyz")[:words]
+    rows = ["in " + " ".join(ins + states), "go one"]
+    go = "go"
+    for name in ins:
+        rows.append(f"go{name} and {go} {name}")
+        go = "go" + name
+    step, full = go, "go"
+    for name in states:
+        rows += [f"n{name} odd {name} {step}", f"k{name} and {name} {step}", f"f{name} and {name} {full}"]
+        step, full = "k" + name, "f" + name
+    rows.append(f"s and {full} {full if tell == 'full' else go}")
+    rows.append("out s " + " ".join(["n" + name for name in states]))
+    return row_of(";".join(rows), " ".join([f"n{name}>{name}" for name in states]))

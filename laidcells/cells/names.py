@@ -1,5 +1,7 @@
 """Names, and the words of cells, which no name may be."""
 
+from laidcells.errors import NoName
+
 LETTERS = "abcdefghijklmnopqrstuvwxyz"
 LONGEST_NAME = 8
 SIDE_WORDS = ("in", "out")
@@ -24,3 +26,9 @@ def is_name(text):
 
 def word_takes(word, count):
     return count in NAME_COUNTS.get(word, ())
+
+
+def check_there(names, given):
+    for name in names:
+        if name not in given:
+            raise NoName(name)
