@@ -144,3 +144,16 @@ def counter(bits, words, tell="full"):
     rows.append(f"s and {full} {full if tell == 'full' else go}")
     rows.append("out s " + " ".join(["n" + name for name in states]))
     return row_of(";".join(rows), " ".join([f"n{name}>{name}" for name in states]))
+
+
+WAYS = ((1, 0), (0, 1), (1, 1), (1, -1))
+
+# Of each place the product of both bits; sums go to the place of the same worth, carries to one worth twice as much.
+PRODUCT = cell_of("in a b s c; p and a b; t odd p s c; m most p s c; out t m")
+MULTIPLIER = (PRODUCT, (("t", "s", 1, -1), ("m", "c", 0, 1)), ("a",), ("b",))
+MULTIPLIER_DOWN = (PRODUCT, (("m", "c", 1, 0), ("t", "s", 1, -1)), ("a",), ("b",))
+
+
+def carrier(way):
+    """What a row's and a column's bit and the bit that is carried are odd of, carried on one way."""
+    return (cell_of("in r k c; o odd r k c; e and r c; n not c; out e o n"), (("o", "c") + way,), ("r",), ("k",))

@@ -257,6 +257,153 @@ def plain_field(field, width, height, words, edges):
     return answer
 
 
+def some_words(chance, field, width, height):
+    """Words of all noughts, of all ones, by chance."""
+    rows, columns = field[2:]
+    for choose in (lambda top: 0, lambda top: top - 1, lambda top: chance.randint(0, top - 1)):
+        yield {name: choose(2 ** height) for name in rows} | {name: choose(2 ** width) for name in columns}
+
+
+# Claims for fields.
+
+def field_sides(field):
+    """Names of the carried inputs, and of the outputs that are in no along."""
+    cell, along, rows, columns = field
+    ends = [output for output, name, down, right in along]
+    return [name for output, name, down, right in along], [name for name in cell[2] if name not in ends]
+
+
+def field_things(field):
+    carried, outs = field_sides(field)
+    return [""] + list(field[2]) + list(field[3]) + list(itertools.product(field[2], field[3])) + outs + carried
+
+
+def plain_field_sum(field, claim, width, height, words):
+    """The sum of [13], by what is told of the field."""
+    cell, along, rows, columns = field
+    edges, weights = claim
+    told = plain_field(field, width, height, words, edges)
+    counted = {"": (2 ** width - 1) * (2 ** height - 1)}
+    counted.update({name: words[name] * (2 ** width - 1) for name in rows})
+    counted.update({name: words[name] * (2 ** height - 1) for name in columns})
+    counted.update({(one, other): words[one] * words[other] for one in rows for other in columns})
+    counted.update({name: told[name] for name in field_sides(field)[1]})
+    for output, name, down, right in along:
+        places = [(i, j) for i in range(height) for j in range(width)
+                  if i - down not in range(height) or j - right not in range(width)]
+        counted[name] = sum(2 ** (i + j) for i, j in places) * edges[name] - 2 ** (down + right) * told[output]
+    return sum(weights.get(thing, 0) * count for thing, count in counted.items())
+
+
+def field_words(field, width, height):
+    """Dicts of all words of a size, the first first."""
+    tops = [2 ** height] * len(field[2]) + [2 ** width] * len(field[3])
+    for words in itertools.product(*[range(top) for top in tops]):
+        yield dict(zip(field[2] + field[3], words))
+
+
+def field_holds(field, claim, width, height):
+    return all(plain_field_sum(field, claim, width, height, words) == 0
+               for words in field_words(field, width, height))
+
+
+def field_steps(field, paper):
+    """For all bits that a paper lets: (what is carried to each input, by thing what its weight counts)."""
+    cell, along, rows, columns = field
+    may_be = dict(paper)
+    names = list(rows + columns) + list(may_be)
+    for bits in itertools.product(*[may_be.get(name, (0, 1)) for name in names]):
+        known = dict(zip(names, bits))
+        told = plain_told(cell, known)
+        counted = {"": 1} | {name: known[name] for name in rows + columns}
+        counted.update({(one, other): known[one] * known[other] for one in rows for other in columns})
+        counted.update({name: told[name] for name in field_sides(field)[1]})
+        counted.update({name: known[name] - 2 ** (down + right) * told[output]
+                        for output, name, down, right in along})
+        yield {name: told[output] for output, name, down, right in along}, counted
+
+
+def plain_field_shown(field, claim, paper):
+    """The sentence of [14]."""
+    edges, weights = claim
+    may_be = dict(paper)
+    if any(edges[name] not in may_be[name] for name in may_be):
+        return False
+    for onward, counted in field_steps(field, paper):
+        if any(onward[name] not in may_be[name] for name in may_be):
+            return False
+        if sum(weights.get(thing, 0) * count for thing, count in counted.items()) != 0:
+            return False
+    return True
+
+
+def field_papers(field):
+    names = field_sides(field)[0]
+    return [tuple(zip(names, choice)) for choice in itertools.product(((0,), (1,), (0, 1)), repeat=len(names))]
+
+
+def field_claims(field, paper):
+    """Dicts of weights that come to 0 for all bits that a paper lets: as many as are free of each other."""
+    things = field_things(field)
+    table = [[counted[thing] for thing in things] for onward, counted in field_steps(field, paper)]
+    return [dict(zip(things, vector)) for vector in null_vectors(table, len(things))]
+
+
+def closed_paper(field, edges):
+    """The paper of the fewest bits that has the edges and all that is carried on from what it has."""
+    may_be = {name: {edges[name]} for name in field_sides(field)[0]}
+    while True:
+        paper = tuple((name, tuple(sorted(bits))) for name, bits in may_be.items())
+        more = [(name, bit) for onward, counted in field_steps(field, paper) for name, bit in onward.items()
+                if bit not in may_be[name]]
+        if not more:
+            return paper
+        for name, bit in more:
+            may_be[name].add(bit)
+
+
+def plain_field_judged(field, claim):
+    """The sentence of [15]."""
+    shown = [paper for paper in field_papers(field) if plain_field_shown(field, claim, paper)]
+    if shown:
+        return ("shown", min(shown, key=lambda paper: (sum(len(bits) for name, bits in paper), paper)))
+    for width, height in sorted(itertools.product((1, 2, 3), repeat=2), key=lambda size: (sum(size), size[0])):
+        for words in field_words(field, width, height):
+            if plain_field_sum(field, claim, width, height, words) != 0:
+                return ("broken", width, height, words)
+    return ("open",)
+
+
+# How late rows are.
+
+def plain_lates(row, width):
+    """How late a row is at the widths from 1 to this one, place by place: the latest of all that comes out."""
+    cell, along = row
+    ins, carried, outs, ends = sides(row)
+    late_words, answer = 0, []
+    comes = dict.fromkeys(carried, 0)
+    for place in range(width):
+        lates = {name: comes.get(name, 0) for name in cell[0]}
+        for name, word, names in cell[1]:
+            lates[name] = 0 if word in ("one", "nil") else max(lates[other] for other in names) + 1
+        late_words = max([late_words] + [lates[name] for name in outs])
+        answer.append(max([late_words] + [lates[name] for name in ends]))
+        comes = {name: lates[output] for output, name in along}
+    return answer
+
+
+def plain_ways(lates):
+    """(firsts, ring, more) from a row of lates that is long enough: what holds all through its second half stays."""
+    for ring in range(1, len(lates) // 4):
+        more = lates[-1] - lates[-1 - ring]
+        count = len(lates)
+        while count > ring and lates[count - 1] == lates[count - 1 - ring] + more:
+            count -= 1
+        if count <= len(lates) // 2:
+            return (tuple(lates[:count]), ring, more)
+    return None
+
+
 # Cells, rows and fields by chance.
 
 COUNTS = (("and", 2), ("and", 3), ("or", 2), ("or", 3), ("odd", 2), ("odd", 3), ("odd", 2), ("most", 3), ("not", 1),

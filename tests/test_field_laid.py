@@ -4,29 +4,12 @@ import itertools
 import random
 import unittest
 
-from cases import cell_of
+from cases import MULTIPLIER, MULTIPLIER_DOWN, WAYS, carrier, cell_of
 from laidcells.errors import NoName
 from laidcells.fields.fields import field_laid
-from plain import any_field, bit_tuples, plain_field
+from plain import any_field, bit_tuples, plain_field, some_words
 
 SIZES = tuple(itertools.product(range(1, 9), repeat=2))
-WAYS = ((1, 0), (0, 1), (1, 1), (1, -1))
-
-# Of each place the product of both bits; sums go to the place of the same worth, carries to one worth twice as much.
-PRODUCT = cell_of("in a b s c; p and a b; t odd p s c; m most p s c; out t m")
-MULTIPLIER = (PRODUCT, (("t", "s", 1, -1), ("m", "c", 0, 1)), ("a",), ("b",))
-MULTIPLIER_DOWN = (PRODUCT, (("m", "c", 1, 0), ("t", "s", 1, -1)), ("a",), ("b",))
-
-
-def carrier(way):
-    """What a row's and a column's bit and the bit that is carried are odd of, carried on one way."""
-    return (cell_of("in r k c; o odd r k c; e and r c; n not c; out e o n"), (("o", "c") + way,), ("r",), ("k",))
-
-
-def some_words(chance, field, width, height):
-    rows, columns = field[2:]
-    for choose in (lambda top: 0, lambda top: top - 1, lambda top: chance.randint(0, top - 1)):
-        yield {name: choose(2 ** height) for name in rows} | {name: choose(2 ** width) for name in columns}
 
 
 class Laying(unittest.TestCase):

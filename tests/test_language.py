@@ -23,6 +23,8 @@ METHODS = (
     "append clear copy count endswith extend find get index insert isalnum isalpha isdigit islower isspace isupper items"
     " join keys ljust lower lstrip partition pop remove replace reverse rfind rjust rpartition rsplit rstrip setdefault"
     " split splitlines startswith strip update upper values zfill bit_length").split()
+KEYWORDS = {"sorted": ("key", "reverse"), "min": ("key", "default"), "max": ("key", "default"), "sum": ("start",),
+            "enumerate": ("start",), "zip": ("strict",)}
 DUNDERS = "__init__ __eq__ __repr__ __str__ __len__".split()
 WORDS = (
     "type typing typing_extensions enum Enum IntEnum StrEnum Flag IntFlag Generic Protocol ABC ABCMeta namedtuple"
@@ -134,6 +136,39 @@ class Language(unittest.TestCase):
         for place, node in nodes():
             if isinstance(node, ast.Call) and isinstance(node.func, ast.Attribute):
                 self.assertIn(node.func.attr, METHODS + own, place)
+
+    def test_texts(self):
+        for place, node in nodes():
+            if isinstance(node, ast.FormattedValue):
+                self.assertIsInstance(node.value, ast.Name, place)
+                self.assertIsNone(node.format_spec, place)
+            if isinstance(node, ast.Constant) and isinstance(node.value, str):
+                self.assertNotIn("%", node.value, place)
+
+    def test_is_and_keywords(self):
+        for place, node in nodes():
+            if isinstance(node, ast.Compare) and any(isinstance(sign, (ast.Is, ast.IsNot)) for sign in node.ops):
+                self.assertIn(getattr(node.comparators[0], "value", 0), (None, True, False), place)
+            if isinstance(node, ast.Call):
+                allowed = KEYWORDS.get(getattr(node.func, "id", ""), ())
+                self.assertLessEqual({keyword.arg for keyword in node.keywords}, set(allowed), place)
+
+    def test_sets_are_asked_on_the_spot(self):
+        for place, node in nodes():
+            for part in ast.iter_child_nodes(node):
+                if isinstance(part, ast.Call) and getattr(part.func, "id", "") in ("set", "frozenset"):
+                    asked = isinstance(node, ast.Call) and getattr(node.func, "id", "") in ("len", "sorted")
+                    self.assertTrue(asked or isinstance(node, (ast.Compare, ast.BinOp)), place)
+
+    def test_locals_are_called_like_no_import_and_no_class(self):
+        for path, tree in trees():
+            taken = {name.name for node in tree.body if isinstance(node, ast.ImportFrom) for name in node.names}
+            taken |= {node.name for node in tree.body if isinstance(node, ast.ClassDef)}
+            for node in ast.walk(tree):
+                if isinstance(node, ast.arg):
+                    self.assertNotIn(node.arg, taken, path)
+                if isinstance(node, ast.Name) and isinstance(node.ctx, ast.Store):
+                    self.assertNotIn(node.id, taken, path)
 
 
 if __name__ == "__main__":

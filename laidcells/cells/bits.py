@@ -12,6 +12,13 @@ def told_by(cell, bits):
     return tuple([told[name] for name in cell[2]])
 
 
+def side_bits(cell, bits):
+    # Names of outputs and of inputs with their bits: those of inputs alone, all of them, are handed in.
+    known = dict(bits)
+    known.update(dict(zip(cell[2], told_by(cell, bits))))
+    return known
+
+
 def gate_bit(word, bits):
     if word == "and":
         return min(bits)

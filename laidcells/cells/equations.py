@@ -1,6 +1,6 @@
 """Equations of a cell: weights of its names and pairs whose sum is 0, whatever the bits of its inputs."""
 
-from laidcells.cells.bits import all_bits, told_by
+from laidcells.cells.bits import all_bits, side_bits
 
 
 def is_equation(cell, weights):
@@ -31,8 +31,7 @@ def things_of(cell, pairs):
 def value_table(cell, things):
     table = []
     for bits in all_bits(len(cell[0])):
-        known = dict(zip(cell[0], bits))
-        known.update(dict(zip(cell[2], told_by(cell, known))))
+        known = side_bits(cell, dict(zip(cell[0], bits)))
         known[""] = 1
         table.append([thing_value(thing, known) for thing in things])
     return table

@@ -1,6 +1,6 @@
 """What one cell of a row does, by what is carried to it and the bits of its words."""
 
-from laidcells.cells.bits import all_bits, told_by
+from laidcells.cells.bits import all_bits, side_bits
 
 
 def carried_inputs(row):
@@ -15,6 +15,10 @@ def word_inputs(row):
 def word_outputs(row):
     carried = [output for output, name in row[1]]
     return [name for name in row[0][2] if name not in carried]
+
+
+def weighed_names(row):
+    return word_inputs(row) + word_outputs(row) + carried_inputs(row)
 
 
 def let_edges(row, edges):
@@ -37,17 +41,10 @@ def step_table(row, weights):
 def steps_from(row, weights, carried):
     found = {}
     for bits in all_bits(len(word_inputs(row))):
-        known = side_bits(row, carried, bits)
+        known = side_bits(row[0], dict(zip(carried_inputs(row) + word_inputs(row), carried + bits)))
         onward = tuple([known[output] for output, name in row[1]])
         found[bits] = (onward, cell_part(row, weights, known))
     return found
-
-
-def side_bits(row, carried, bits):
-    cell = row[0]
-    known = dict(zip(carried_inputs(row) + word_inputs(row), carried + bits))
-    known.update(dict(zip(cell[2], told_by(cell, known))))
-    return known
 
 
 def cell_part(row, weights, known):
